@@ -1,0 +1,241 @@
+"""The form of the package's own files: the rules of the language part that can be seen in the code."""
+
+import ast
+import builtins
+import pathlib
+import re
+import unittest
+
+PACKAGE = pathlib.Path(__file__).resolve().parent.parent / "weirwatch"
+
+OWN_NAMES = """len range enumerate zip min max sum abs sorted reversed int str bool list tuple dict set frozenset
+isinstance ord repr any all divmod Exception ValueError TypeError KeyError IndexError LookupError ZeroDivisionError
+ArithmeticError OverflowError RuntimeError NotImplementedError AttributeError StopIteration""".split()
+
+OWN_METHODS = """append clear copy count endswith extend find get index insert isalnum isalpha isdigit islower isspace
+isupper items join keys ljust lower lstrip partition pop remove replace reverse rfind rjust rpartition rsplit rstrip
+setdefault split splitlines startswith strip update upper values zfill bit_length""".split()
+
+FREE_NODES = """Module FunctionDef ClassDef arguments arg Return Assign AugAssign For While If Raise Try Expr Pass Break
+Continue ImportFrom alias ExceptHandler BoolOp And Or BinOp Add Sub Mult FloorDiv Mod Pow LShift RShift BitOr BitXor
+BitAnd UnaryOp Invert Not UAdd USub Lambda IfExp Dict Set ListComp comprehension Compare Eq NotEq Lt LtE Gt GtE Is
+IsNot In NotIn Call keyword JoinedStr FormattedValue Constant Attribute Subscript Slice Name List Tuple Load
+Store""".split()
+
+CLASS_METHODS = "__init__ __eq__ __repr__ __str__ __len__".split()
+
+UNUSED_NAMES = """register mro elements open input version_info with_traceback add_note format format_map attrgetter
+breakpoint compile copyright credits delattr dir eval exec exit gc getattr globals hasattr help id importlib license
+locals methodcaller os quit setattr super vars sys chr print""".split()
+
+UNUSED_WORDS = """type typing typing_extensions enum Enum IntEnum StrEnum Flag IntFlag Generic Protocol ABC ABCMeta
+namedtuple NamedTuple TypedDict TYPE_CHECKING abstractmethod""".split()
+
+
+def package_files():
+    return sorted(path for path in PACKAGE.rglob("*") if "__pycache__" not in path.parts)
+
+
+def module_name(path):
+    return "weirwatch." + path.stem
+
+
+def tree_of(path):
+    return ast.parse(path.read_text(encoding="utf-8"))
+
+
+def nodes_of(kind):
+    for path in package_files():
+        for node in ast.walk(tree_of(path)):
+            if isinstance(node, kind):
+                yield path.name, node
+
+
+def bound_names(tree):
+    """Every name that the file gives to something."""
+    for node in ast.walk(tree):
+        if isinstance(node, (ast.FunctionDef, ast.ClassDef)):
+            yield node.name
+        if isinstance(node, ast.arg):
+            yield node.arg
+        if isinstance(node, ast.Name) and isinstance(node.ctx, ast.Store):
+            yield node.id
+        if isinstance(node, ast.Attribute) and isinstance(node.ctx, ast.Store):
+            yield node.attr
+        if isinstance(node, ast.ExceptHandler) and node.name:
+            yield node.name
+
+
+def top_names(tree):
+    for node in tree.body:
+        if isinstance(node, (ast.FunctionDef, ast.ClassDef)):
+            yield node.name
+        if isinstance(node, ast.Assign):
+            yield node.targets[0].id
+
+
+def method_names():
+    names = []
+    for _, node in nodes_of(ast.ClassDef):
+        names.extend(part.name for part in node.body if isinstance(part, ast.FunctionDef))
+    return names
+
+
+class Files(unittest.TestCase):
+    def test_files(self):
+        names = [path.name for path in package_files()]
+        self.assertIn("__init__.py", names)
+        for name in names:
+            self.assertRegex(name, r"^[a-z][a-z0-9_]*\.py$|^__init__\.py$|^__main__\.py$")
+
+    def test_sizes_and_signs(self):
+        for path in package_files():
+            text = path.read_bytes().decode("utf-8")
+            self.assertRegex(text, r"\A[ -~\n]*\Z", path.name)
+            self.assertLessEqual(len(text.splitlines()), 400, path.name)
+            for line in text.splitlines():
+                self.assertLessEqual(len(line), 120, path.name)
+
+    def test_sizes_of_functions(self):
+        for name, node in nodes_of(ast.FunctionDef):
+            self.assertLessEqual(node.end_lineno - node.lineno + 1, 40, f"{name} {node.name}")
+
+    def test_words_that_stand_nowhere(self):
+        for path in package_files():
+            words = re.findall(r"\w+", path.read_text(encoding="utf-8"))
+            self.assertEqual([word for word in words if word in UNUSED_WORDS], [], path.name)
+            for part in ("dataclass", "overload", "contextmanager"):
+                self.assertEqual([word for word in words if part in word], [], path.name)
+
+    def test_tops(self):
+        for path in package_files():
+            body = tree_of(path).body
+            self.assertIsInstance(body[0], ast.Expr, path.name)
+            for node in body[1:]:
+                self.assertIsInstance(node, (ast.ImportFrom, ast.FunctionDef, ast.ClassDef, ast.Assign), path.name)
+            names = list(top_names(tree_of(path)))
+            self.assertEqual(len(names), len(set(names)), path.name)
+
+
+class Imports(unittest.TestCase):
+    def test_from_the_file_that_defines_the_name(self):
+        tops = {module_name(path): set(top_names(tree_of(path))) for path in package_files()}
+        for name, node in nodes_of(ast.ImportFrom):
+            self.assertEqual(node.level, 0, name)
+            for alias in node.names:
+                self.assertIn(alias.name, tops.get(node.module, ()), f"{name} {node.module}")
+
+    def test_no_two_files_draw_from_one_another(self):
+        draws = {module_name(path): set() for path in package_files()}
+        for name, node in nodes_of(ast.ImportFrom):
+            draws["weirwatch." + name[:-len(".py")]].add(node.module)
+        while draws:
+            free = [name for name, drawn in draws.items() if not drawn & set(draws)]
+            self.assertNotEqual(free, [], draws)
+            draws = {name: drawn for name, drawn in draws.items() if name not in free}
+
+
+class Code(unittest.TestCase):
+    def test_statements_and_expressions(self):
+        for name, node in nodes_of(ast.AST):
+            self.assertIn(node.__class__.__name__, FREE_NODES, f"{name} {getattr(node, 'lineno', '')}")
+
+    def test_functions(self):
+        for name, node in nodes_of(ast.FunctionDef):
+            given = node.args
+            self.assertEqual([given.vararg, given.kwarg, given.kwonlyargs, given.posonlyargs], [None, None, [], []])
+            self.assertEqual([node.decorator_list, node.returns], [[], None], f"{name} {node.name}")
+
+    def test_classes(self):
+        for name, node in nodes_of(ast.ClassDef):
+            self.assertLessEqual(len(node.bases), 1, node.name)
+            self.assertEqual([node.decorator_list, node.keywords], [[], []], node.name)
+            for part in node.body:
+                written = isinstance(part, ast.Expr) and isinstance(part.value, ast.Constant)
+                self.assertTrue(written or isinstance(part, ast.FunctionDef), f"{name} {node.name}")
+            methods = [part.name for part in node.body if isinstance(part, ast.FunctionDef)]
+            self.assertEqual(len(methods), len(set(methods)), node.name)
+
+    def test_assignments_comprehensions_and_handlers(self):
+        for name, node in nodes_of((ast.Assign, ast.ListComp, ast.For, ast.While, ast.Try, ast.ExceptHandler)):
+            row = f"{name} {node.lineno}"
+            if isinstance(node, ast.Assign):
+                self.assertEqual(len(node.targets), 1, row)
+            if isinstance(node, ast.ListComp):
+                self.assertEqual(len(node.generators), 1, row)
+                self.assertLessEqual(len(node.generators[0].ifs), 1, row)
+            if isinstance(node, (ast.For, ast.While)):
+                self.assertEqual(node.orelse, [], row)
+            if isinstance(node, ast.Try):
+                self.assertEqual(node.finalbody, [], row)
+            if isinstance(node, ast.ExceptHandler):
+                self.assertNotIn(ast.unparse(node.type) if node.type else "", ("", "Exception", "TypeError"), row)
+
+    def test_is_stands_beside_none_and_truths(self):
+        for name, node in nodes_of(ast.Compare):
+            for operator, other in zip(node.ops, node.comparators):
+                if isinstance(operator, (ast.Is, ast.IsNot)):
+                    self.assertIn(ast.unparse(other), ("None", "True", "False"), f"{name} {node.lineno}")
+
+    def test_plain_values(self):
+        for name, node in nodes_of(ast.Constant):
+            self.assertIn(node.value.__class__, (int, str, bool, None.__class__), f"{name} {node.lineno}")
+            if isinstance(node.value, str):
+                self.assertNotIn("%", node.value, f"{name} {node.lineno}")
+
+    def test_exponents_are_written(self):
+        for name, node in nodes_of(ast.BinOp):
+            if isinstance(node.op, ast.Pow):
+                self.assertIn(ast.unparse(node.right), [str(k) for k in range(65)], f"{name} {node.lineno}")
+
+    def test_texts_with_braces_hold_names_alone(self):
+        for name, node in nodes_of(ast.FormattedValue):
+            self.assertIsInstance(node.value, ast.Name, f"{name} {node.lineno}")
+            self.assertIsNone(node.format_spec, f"{name} {node.lineno}")
+
+
+class Names(unittest.TestCase):
+    def test_plain_and_free(self):
+        for path in package_files():
+            for name in bound_names(tree_of(path)):
+                if name not in CLASS_METHODS:
+                    self.assertRegex(name, r"^[A-Za-z][A-Za-z0-9_]*$", path.name)
+                    self.assertNotIn(name, UNUSED_NAMES, path.name)
+
+    def test_none_like_pythons_own(self):
+        for path in package_files():
+            methods = method_names()
+            for name in bound_names(tree_of(path)):
+                if name not in methods:
+                    self.assertFalse(hasattr(builtins, name), f"{path.name} {name}")
+
+    def test_no_local_is_called_like_a_class_or_an_import(self):
+        for path in package_files():
+            tree = tree_of(path)
+            taken = [node.name for node in tree.body if isinstance(node, ast.ClassDef)]
+            for node in tree.body:
+                if isinstance(node, ast.ImportFrom):
+                    taken.extend(alias.asname or alias.name for alias in node.names)
+            for node in ast.walk(tree):
+                local = node.arg if isinstance(node, ast.arg) else None
+                if isinstance(node, ast.Name) and isinstance(node.ctx, ast.Store):
+                    local = node.id
+                self.assertNotIn(local, taken, path.name)
+
+    def test_pythons_own_that_are_read(self):
+        for name, node in nodes_of(ast.Name):
+            if hasattr(builtins, node.id):
+                self.assertIn(node.id, OWN_NAMES, f"{name} {node.lineno}")
+
+    def test_methods_and_values_have_unlike_names(self):
+        values = [node.attr for _, node in nodes_of(ast.Attribute) if isinstance(node.ctx, ast.Store)]
+        self.assertEqual(sorted(set(values) & set(method_names())), [])
+
+    def test_attributes_are_own_or_listed(self):
+        values = [node.attr for _, node in nodes_of(ast.Attribute) if isinstance(node.ctx, ast.Store)]
+        for name, node in nodes_of(ast.Attribute):
+            self.assertIn(node.attr, OWN_METHODS + values + method_names(), f"{name} {node.lineno}")
+
+
+if __name__ == "__main__":
+    unittest.main()

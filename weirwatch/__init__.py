@@ -1,0 +1,1 @@
+"""Weirwatch: basins held whatever rain falls, and towns served in turn."""
