@@ -74,6 +74,25 @@ def top_names(tree):
             yield node.targets[0].id
 
 
+def names_within(node):
+    return [id(part) for part in ast.walk(node) if isinstance(part, ast.Name)]
+
+
+def free_class_places(tree):
+    """The names by which a class may stand: called, a base, beside isinstance, taken by a handler."""
+    places = []
+    for node in ast.walk(tree):
+        if isinstance(node, ast.Call):
+            places.append(id(node.func))
+            if isinstance(node.func, ast.Name) and node.func.id == "isinstance":
+                places.extend(names_within(node.args[1]))
+        if isinstance(node, ast.ClassDef):
+            places.extend(id(base) for base in node.bases)
+        if isinstance(node, ast.ExceptHandler) and node.type:
+            places.extend(names_within(node.type))
+    return places
+
+
 def method_names():
     names = []
     for _, node in nodes_of(ast.ClassDef):
@@ -155,6 +174,25 @@ class Code(unittest.TestCase):
                 self.assertTrue(written or isinstance(part, ast.FunctionDef), f"{name} {node.name}")
             methods = [part.name for part in node.body if isinstance(part, ast.FunctionDef)]
             self.assertEqual(len(methods), len(set(methods)), node.name)
+
+    def test_classes_are_not_kept_or_handed_on(self):
+        classes = [node.name for _, node in nodes_of(ast.ClassDef)]
+        for path in package_files():
+            tree = tree_of(path)
+            free = free_class_places(tree)
+            for node in ast.walk(tree):
+                if isinstance(node, ast.Name) and node.id in classes:
+                    self.assertIn(id(node), free, f"{path.name} {node.lineno}")
+
+    def test_errors_are_made_on_the_spot(self):
+        for name, node in nodes_of(ast.Raise):
+            self.assertIsInstance(node.exc, ast.Call, f"{name} {node.lineno}")
+
+    def test_what_is_walked_is_not_kept(self):
+        for name, node in nodes_of((ast.Assign, ast.Return)):
+            kept = node.value.func if isinstance(node.value, ast.Call) else None
+            if isinstance(kept, ast.Name):
+                self.assertNotIn(kept.id, ("zip", "enumerate", "reversed", "range", "set"), f"{name} {node.lineno}")
 
     def test_assignments_comprehensions_and_handlers(self):
         for name, node in nodes_of((ast.Assign, ast.ListComp, ast.For, ast.While, ast.Try, ast.ExceptHandler)):

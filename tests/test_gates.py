@@ -3,7 +3,7 @@
 import itertools
 import unittest
 
-from things import FAR, no_numbers, package_objects
+from things import FAR, Refusing, no_numbers, package_objects
 from weirwatch.errors import NoGate, NoNumber
 from weirwatch.gates import FlapGate, Gate, PartGate, StepGate, StuckGate
 
@@ -35,14 +35,6 @@ def all_marks(sort):
 
 def some_gates():
     return [StepGate([0, 2, 4]), FlapGate((1, 5)), PartGate([1, 2, 3, 12]), StepGate((7,))]
-
-
-class Refusing(unittest.TestCase):
-    def refused(self, error, thing, act):
-        with self.subTest(thing=thing), self.assertRaises(error) as caught:
-            act()
-        self.assertIs(caught.exception.__class__, error)
-        self.assertIs(caught.exception.thing, thing)
 
 
 class Sorts(unittest.TestCase):
