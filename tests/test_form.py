@@ -32,6 +32,18 @@ UNUSED_WORDS = """type typing typing_extensions enum Enum IntEnum StrEnum Flag I
 namedtuple NamedTuple TypedDict TYPE_CHECKING abstractmethod""".split()
 
 
+WALKED = "zip enumerate reversed range items keys values".split()
+
+WALKING = "list tuple dict sorted sum any all enumerate zip".split()
+
+KEYWORDS = {"sorted": ("key", "reverse"), "min": ("key", "default"), "max": ("key", "default"), "sum": ("start",),
+            "enumerate": ("start",), "zip": ("strict",)}
+
+# Names of Python's own values that methods, or values, of own objects may have all the same.
+FREE_METHODS = OWN_METHODS + ["add", "discard"]
+FREE_VALUES = "count index title find get join lower upper split strip copy add".split()
+
+
 def package_files():
     return sorted(path for path in PACKAGE.rglob("*") if "__pycache__" not in path.parts)
 
@@ -91,6 +103,45 @@ def free_class_places(tree):
         if isinstance(node, ast.ExceptHandler) and node.type:
             places.extend(names_within(node.type))
     return places
+
+
+def called_name(node):
+    """The name by which a call calls, be it a function's or a method's."""
+    if not isinstance(node, ast.Call):
+        return None
+    return node.func.id if isinstance(node.func, ast.Name) else getattr(node.func, "attr", None)
+
+
+def walked_places(tree):
+    """The calls that are walked on the spot: behind `in`, as the first thing in what walks, alone in min and max."""
+    places = []
+    for node in ast.walk(tree):
+        if isinstance(node, (ast.For, ast.comprehension)):
+            places.append(id(node.iter))
+        if isinstance(node, ast.Call) and node.args:
+            alone = called_name(node) in ("min", "max", "join") and len(node.args) == 1
+            if alone or called_name(node) in WALKING:
+                places.append(id(node.args[0]))
+    return places
+
+
+def set_places(tree):
+    """The calls of set that stand beside `in`, `==` or `!=`, or straight within sorted or len."""
+    places = []
+    for node in ast.walk(tree):
+        if isinstance(node, ast.Call) and called_name(node) in ("sorted", "len") and not node.keywords:
+            places.append(id(node.args[0]))
+        if isinstance(node, ast.Compare) and isinstance(node.ops[0], (ast.In, ast.NotIn, ast.Eq, ast.NotEq)):
+            places.extend(id(part) for part in node.comparators)
+    return places
+
+
+def stored_in(outer, inner):
+    """The names that a function gives values to, but within the inner one."""
+    within = [id(part) for part in ast.walk(inner)] if inner else []
+    for node in ast.walk(outer):
+        if isinstance(node, ast.Name) and isinstance(node.ctx, ast.Store) and id(node) not in within:
+            yield node.id
 
 
 def method_names():
@@ -194,6 +245,62 @@ class Code(unittest.TestCase):
             if isinstance(kept, ast.Name):
                 self.assertNotIn(kept.id, ("zip", "enumerate", "reversed", "range", "set"), f"{name} {node.lineno}")
 
+    def test_what_is_walked_is_walked_on_the_spot(self):
+        for path in package_files():
+            tree = tree_of(path)
+            walked = walked_places(tree)
+            for node in ast.walk(tree):
+                if called_name(node) in WALKED:
+                    self.assertIn(id(node), walked, f"{path.name} {node.lineno}")
+
+    def test_sets_are_not_kept_or_walked(self):
+        for path in package_files():
+            tree = tree_of(path)
+            free = set_places(tree)
+            for node in ast.walk(tree):
+                if called_name(node) in ("set", "frozenset") or isinstance(node, ast.Set):
+                    self.assertIn(id(node), free, f"{path.name} {node.lineno}")
+
+    def test_keywords(self):
+        own = {node.name for _, node in nodes_of(ast.FunctionDef)}
+        for name, node in nodes_of(ast.Call):
+            for keyword in node.keywords:
+                free = called_name(node) in own or keyword.arg in KEYWORDS.get(called_name(node), ())
+                self.assertTrue(free, f"{name} {node.lineno}")
+
+    def test_no_annotations_and_plain_defaults(self):
+        for name, node in nodes_of(ast.arg):
+            self.assertIsNone(node.annotation, f"{name} {node.lineno}")
+        for name, node in nodes_of((ast.FunctionDef, ast.Lambda)):
+            for default in node.args.defaults:
+                self.assertIsInstance(default, ast.Constant, f"{name} {node.lineno}")
+
+    def test_one_lambda_on_a_line(self):
+        rows = [(name, node.lineno) for name, node in nodes_of(ast.Lambda)]
+        self.assertEqual(len(rows), len(set(rows)))
+
+    def test_values_of_tops_can_not_be_changed(self):
+        for path in package_files():
+            for node in tree_of(path).body:
+                if isinstance(node, ast.Assign):
+                    self.assertIsInstance(node.value, (ast.Constant, ast.Tuple), f"{path.name} {node.lineno}")
+
+    def test_no_function_assigns_what_is_around_it(self):
+        for name, outer in nodes_of(ast.FunctionDef):
+            for inner in ast.walk(outer):
+                if isinstance(inner, ast.FunctionDef) and inner is not outer:
+                    around = {part.arg for part in outer.args.args} | set(stored_in(outer, inner))
+                    self.assertEqual(around & set(stored_in(inner, None)), set(), f"{name} {inner.name}")
+
+    def test_methods_are_not_handed_on(self):
+        methods = set(method_names())
+        for path in package_files():
+            tree = tree_of(path)
+            called = [id(node.func) for node in ast.walk(tree) if isinstance(node, ast.Call)]
+            for node in ast.walk(tree):
+                if isinstance(node, ast.Attribute) and node.attr in methods:
+                    self.assertIn(id(node), called, f"{path.name} {node.lineno}")
+
     def test_assignments_comprehensions_and_handlers(self):
         for name, node in nodes_of((ast.Assign, ast.ListComp, ast.For, ast.While, ast.Try, ast.ExceptHandler)):
             row = f"{name} {node.lineno}"
@@ -241,8 +348,8 @@ class Names(unittest.TestCase):
                     self.assertNotIn(name, UNUSED_NAMES, path.name)
 
     def test_none_like_pythons_own(self):
+        methods = method_names()
         for path in package_files():
-            methods = method_names()
             for name in bound_names(tree_of(path)):
                 if name not in methods:
                     self.assertFalse(hasattr(builtins, name), f"{path.name} {name}")
@@ -269,10 +376,18 @@ class Names(unittest.TestCase):
         values = [node.attr for _, node in nodes_of(ast.Attribute) if isinstance(node.ctx, ast.Store)]
         self.assertEqual(sorted(set(values) & set(method_names())), [])
 
+    def test_methods_and_values_are_called_unlike_those_of_pythons_own(self):
+        own = {name for kind in (str, int, list, dict, set, bytes) for name in vars(kind) if not name.startswith("__")}
+        values = [node.attr for _, node in nodes_of(ast.Attribute) if isinstance(node.ctx, ast.Store)]
+        self.assertEqual(sorted(own & set(method_names()) - set(FREE_METHODS)), [])
+        self.assertEqual(sorted(own & set(values) - set(FREE_VALUES)), [])
+        self.assertEqual(sorted({"args", "sort", "encode"} & set(values)), [])
+
     def test_attributes_are_own_or_listed(self):
         values = [node.attr for _, node in nodes_of(ast.Attribute) if isinstance(node.ctx, ast.Store)]
+        known = set(OWN_METHODS + values + method_names())
         for name, node in nodes_of(ast.Attribute):
-            self.assertIn(node.attr, OWN_METHODS + values + method_names(), f"{name} {node.lineno}")
+            self.assertIn(node.attr, known, f"{name} {node.lineno}")
 
 
 if __name__ == "__main__":

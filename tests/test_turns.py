@@ -4,8 +4,8 @@ import itertools
 import unittest
 
 from things import (
-    FAR, Refusing, all_choices, all_rains, all_standings, any_things, least_rain, mill_river, names, no_numbers,
-    rows_around, some_rivers,
+    Refusing, all_choices, all_rains, all_standings, least_rain, mill_river, no_choices, no_rains, no_standings,
+    rows_around, some_rivers, wide_river,
 )
 from weirwatch.errors import NoChoice, NoRain, NoStanding
 from weirwatch.gates import FlapGate, PartGate, StepGate
@@ -13,57 +13,8 @@ from weirwatch.rivers import Basin, River, Town
 from weirwatch.turns import Turn, is_choice, is_rain, is_standing, paid_by, turned
 
 
-def wide_river():
-    """Sixteen basins and a full cloud."""
-    basins = [Basin(name, 0, 12, 6, 6, StepGate([0, 1, 2, 12])) for name in names(16)]
-    return River(12, 12, basins, [Town("a", names(16)[15], 6)])
-
-
 def one_basin(cloud, gain, rain):
     return River(cloud, gain, [Basin("a", 0, 12, 6, rain, StepGate([0]))], [])
-
-
-def wrong_pairs(pair):
-    """Things that are nearly the tuple of two, but not so."""
-    first, second = pair
-    return [
-        [first, second], (first,), (first, second, 0), (first, second, None), (), first, second, {0: first, 1: second},
-        (list(first), second), (first + (0,), second), (first[:-1], second), ((), second), (second, first),
-        (first[0], second), (None, second), (dict(enumerate(first)), second), ((first,), second),
-    ]
-
-
-def none_of(things, right):
-    """Those that are none of the right ones: told by how they are shown, as 1 and True are equal."""
-    shown = {repr(thing) for thing in right}
-    return [thing for thing in things if repr(thing) not in shown]
-
-
-def rows_with(row, thing):
-    return [row[:place] + (thing,) + row[place + 1:] for place in range(len(row))]
-
-
-def no_standings(river, standing):
-    levels, wet = standing
-    wrong = wrong_pairs(standing) + [(levels, -1), (levels, river.cloud + 1), (levels, FAR), (levels, None)]
-    for thing in no_numbers() + [-1, 13, FAR, -FAR]:
-        wrong += [(row, wet) for row in rows_with(levels, thing)] + [(thing, wet), thing]
-    return none_of(wrong + [(levels, thing) for thing in no_numbers()] + any_things(), all_standings(river))
-
-
-def no_choices(river, choice):
-    settings, town = choice
-    wrong = wrong_pairs(choice) + [(settings, -1), (settings, len(river.towns)), (settings, FAR), (settings, "mill")]
-    for thing in no_numbers() + [-1, 4, FAR, -FAR]:
-        wrong += [(row, town) for row in rows_with(settings, thing)] + [(thing, town), thing]
-    return none_of(wrong + [(settings, thing) for thing in no_numbers()] + any_things(), all_choices(river))
-
-
-def no_rains(river, wet, rain):
-    wrong = [list(rain), rain + (0,), rain[:-1], (), (rain,), dict(enumerate(rain)), sum(rain), (rain, 0)]
-    for thing in no_numbers() + [-1, 7, FAR, -FAR]:
-        wrong += rows_with(rain, thing) + [thing]
-    return none_of(wrong + any_things(), all_rains(river, wet))
 
 
 class Standing(unittest.TestCase):

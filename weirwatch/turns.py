@@ -70,6 +70,11 @@ def draw(river, standing, choice):
     return want if standing[0][place_drawn_from(river, town)] >= want else 0
 
 
+def town_paid(river, standing, choice):
+    """The number of the town that the choice pays at the standing, or None."""
+    return choice[1] if draw(river, standing, choice) > 0 else None
+
+
 def paid_by(river, standing, choice):
     """Whether the choice pays a town at the standing."""
     refuse_no_choice(river, standing, choice)
