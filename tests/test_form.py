@@ -39,6 +39,8 @@ WALKING = "list tuple dict sorted sum any all enumerate zip".split()
 KEYWORDS = {"sorted": ("key", "reverse"), "min": ("key", "default"), "max": ("key", "default"), "sum": ("start",),
             "enumerate": ("start",), "zip": ("strict",)}
 
+CHANGING = "append clear extend insert pop remove reverse setdefault update".split()
+
 # Names of Python's own values that methods, or values, of own objects may have all the same.
 FREE_METHODS = OWN_METHODS + ["add", "discard"]
 FREE_VALUES = "count index title find get join lower upper split strip copy add".split()
@@ -136,12 +138,44 @@ def set_places(tree):
     return places
 
 
+def read_places(tree):
+    """The names of which a part is read by an index, or that are asked with `in`."""
+    places = []
+    for node in ast.walk(tree):
+        if isinstance(node, ast.Subscript) and isinstance(node.ctx, ast.Load):
+            places.append(id(node.value))
+        if isinstance(node, ast.Compare) and isinstance(node.ops[0], (ast.In, ast.NotIn)):
+            places.extend(id(part) for part in node.comparators)
+    return places
+
+
 def stored_in(outer, inner):
     """The names that a function gives values to, but within the inner one."""
     within = [id(part) for part in ast.walk(inner)] if inner else []
     for node in ast.walk(outer):
         if isinstance(node, ast.Name) and isinstance(node.ctx, ast.Store) and id(node) not in within:
             yield node.id
+
+
+def walked_by(loop):
+    """What the loop walks, itself or through enumerate, zip, reversed, items and their like, as it is written."""
+    walked, found = [loop.iter], []
+    while walked:
+        node = walked.pop()
+        if called_name(node) in WALKED:
+            walked.extend(node.args if isinstance(node.func, ast.Name) else [node.func.value])
+        else:
+            found.append(ast.unparse(node))
+    return found
+
+
+def changed_in(loop):
+    """What is changed within the loop, as it is written: by a method that changes, or at an index."""
+    for node in ast.walk(loop):
+        if called_name(node) in CHANGING and isinstance(node.func, ast.Attribute):
+            yield ast.unparse(node.func.value)
+        if isinstance(node, ast.Subscript) and isinstance(node.ctx, ast.Store):
+            yield ast.unparse(node.value)
 
 
 def method_names():
@@ -253,6 +287,25 @@ class Code(unittest.TestCase):
                 if called_name(node) in WALKED:
                     self.assertIn(id(node), walked, f"{path.name} {node.lineno}")
 
+    def test_what_a_loop_walks_is_not_changed_in_it(self):
+        for name, loop in nodes_of(ast.For):
+            self.assertEqual(set(walked_by(loop)) & set(changed_in(loop)), set(), f"{name} {loop.lineno}")
+
+    def test_no_value_is_given_to_a_class_or_a_top(self):
+        for path in package_files():
+            tree = tree_of(path)
+            tops = list(top_names(tree))
+            for node in ast.walk(tree):
+                if isinstance(node, ast.Attribute) and isinstance(node.ctx, ast.Store):
+                    self.assertIsInstance(node.value, ast.Name, f"{path.name} {node.lineno}")
+                    self.assertNotIn(node.value.id, tops, f"{path.name} {node.lineno}")
+
+    def test_init_gives_back_nothing(self):
+        for name, node in nodes_of(ast.FunctionDef):
+            if node.name == "__init__":
+                returns = [part for part in ast.walk(node) if isinstance(part, ast.Return)]
+                self.assertEqual(returns, [], f"{name} {node.lineno}")
+
     def test_sets_are_not_kept_or_walked(self):
         for path in package_files():
             tree = tree_of(path)
@@ -279,11 +332,25 @@ class Code(unittest.TestCase):
         rows = [(name, node.lineno) for name, node in nodes_of(ast.Lambda)]
         self.assertEqual(len(rows), len(set(rows)))
 
-    def test_values_of_tops_can_not_be_changed(self):
+    def test_values_of_tops_hold_nothing_that_can_be_changed(self):
         for path in package_files():
             for node in tree_of(path).body:
                 if isinstance(node, ast.Assign):
-                    self.assertIsInstance(node.value, (ast.Constant, ast.Tuple), f"{path.name} {node.lineno}")
+                    within = [part for part in ast.walk(node.value) if part is not node.value]
+                    kinds = [part for part in within if isinstance(part, (ast.List, ast.Dict, ast.Set, ast.Call))]
+                    self.assertEqual(kinds, [], f"{path.name} {node.lineno}")
+                    kinds = (ast.Constant, ast.Tuple, ast.List, ast.Dict)
+                    self.assertIsInstance(node.value, kinds, f"{path.name} {node.lineno}")
+
+    def test_lists_and_dicts_of_tops_are_only_read(self):
+        for path in package_files():
+            tree = tree_of(path)
+            tops = [node.targets[0].id for node in tree.body
+                    if isinstance(node, ast.Assign) and isinstance(node.value, (ast.List, ast.Dict))]
+            free = read_places(tree)
+            for node in ast.walk(tree):
+                if isinstance(node, ast.Name) and node.id in tops and isinstance(node.ctx, ast.Load):
+                    self.assertIn(id(node), free, f"{path.name} {node.lineno}")
 
     def test_no_function_assigns_what_is_around_it(self):
         for name, outer in nodes_of(ast.FunctionDef):

@@ -4,8 +4,8 @@ import itertools
 import unittest
 
 from things import (
-    Refusing, all_standings, dry_river, ends_in, let_choices, light_rivers, mill_river, no_choices, no_standings,
-    no_stuck, some_skies, stuck_ways, watched_rivers, watched_ways, wide_river,
+    Refusing, all_standings, dry_river, ends_in, let_choices, light_rivers, lost_numbers, mill_river, no_choices,
+    no_standings, no_stuck, some_skies, stuck_ways, watched_rivers, watched_ways, wide_river,
 )
 from weirwatch.errors import NoChoice, NoStanding, NoStuck, TooMany
 from weirwatch.gates import FlapGate, PartGate, StepGate, StuckGate
@@ -14,27 +14,6 @@ from weirwatch.rivers import Basin, River
 from weirwatch.rivertext import read_river
 from weirwatch.runs import run
 from weirwatch.standings import Standings, weigh
-
-
-def lost_within(river, stuck, turns, known):
-    """The standings of which the sky can break a basin within so many turns, by those of one turn less."""
-    choices = let_choices(river, stuck)
-    return {
-        standing for standing in all_standings(river)
-        if all(any(end is None or end in known for rain, end in ends_in(river)[standing, choice]) for choice in choices)
-    }
-
-
-def lost_numbers(river, stuck):
-    """All lost standings with their numbers, looked for turn by turn until nothing more comes."""
-    numbers, known = {}, set()
-    for turns in itertools.count(1):
-        more = lost_within(river, stuck, turns, known)
-        if more == known:
-            return numbers
-        for standing in more - known:
-            numbers[standing] = turns
-        known = more
 
 
 def is_closed(river, choices, standings):

@@ -4,8 +4,11 @@ import functools
 import itertools
 import unittest
 
+from weirwatch.days import Days
+from weirwatch.desk import Desk
 from weirwatch.errors import NoGate
 from weirwatch.gates import FlapGate, PartGate, StepGate, StuckGate
+from weirwatch.guard import Guard
 from weirwatch.holding import Holding
 from weirwatch.rivers import Basin, River, Town
 from weirwatch.rivertext import read_river
@@ -39,7 +42,7 @@ def made_objects():
         step, FlapGate([3]), PartGate([1, 2]), StuckGate(step, 1), NoGate(4), river, river.basins[0], river.towns[0],
         turned(river, ((2, 2), 2), ((0, 0), None), (1, 0)),
         run(river, ((2, 2), 2), keeper, sky_of(river, []), 1),
-        holding.standings, holding, serving, TurnKeeper(serving),
+        holding.standings, holding, serving, TurnKeeper(serving), Guard(holding), Days(river), Desk(),
     )
 
 
@@ -192,6 +195,27 @@ def stuck_ways(river):
 def watched_ways():
     """Each watched river with each way of stuck gates."""
     return [(river, stuck) for river in watched_rivers() for stuck in stuck_ways(river)]
+
+
+def lost_within(river, stuck, known):
+    """The standings of which the sky can break a basin within one turn more than those that are known."""
+    choices = let_choices(river, stuck)
+    return {
+        standing for standing in all_standings(river)
+        if all(any(end is None or end in known for rain, end in ends_in(river)[standing, choice]) for choice in choices)
+    }
+
+
+def lost_numbers(river, stuck):
+    """All lost standings with their numbers, looked for turn by turn until nothing more comes."""
+    numbers, known = {}, set()
+    for turns in itertools.count(1):
+        more = lost_within(river, stuck, known)
+        if more == known:
+            return numbers
+        for standing in more - known:
+            numbers[standing] = turns
+        known = more
 
 
 def some_skies(river):

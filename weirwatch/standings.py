@@ -22,6 +22,13 @@ def is_stuck(river, thing):
     return all([is_setting_of(river, place, setting) for place, setting in thing.items()])
 
 
+def is_choice_let(river, stuck, thing):
+    """Whether the thing is a choice that the stuck gates let be."""
+    if not is_choice(river, thing):
+        return False
+    return stuck is None or all([thing[0][place] == setting for place, setting in stuck.items()])
+
+
 def settings_let(river, stuck):
     """For each gate the settings that it can have: all of its own, or the one at which it sticks."""
     let = [list(range(basin.gate.settings())) for basin in river.basins]
@@ -63,6 +70,11 @@ def weigh(river, stuck=None):
     if not is_stuck(river, stuck):
         raise NoStuck(stuck)
     return standings_many(river) * choices_many(river, stuck) * rain_rows_many(river)
+
+
+def refuse_heavy(heft):
+    if heft > MOST_WEIGHT:
+        raise TooMany(heft)
 
 
 def longer_rows(rows, numbers):
@@ -126,11 +138,9 @@ class Standings:
     """All standings of a river in a row, with the choices that the stuck gates let be."""
 
     def __init__(self, river, stuck=None):
-        heft = weigh(river, stuck)
-        if heft > MOST_WEIGHT:
-            raise TooMany(heft)
+        self.heft = weigh(river, stuck)
+        refuse_heavy(self.heft)
         self.river = river
-        self.heft = heft
         self.row = [standing_by(river, number) for number in range(standings_many(river))]
         self.listed = choices_let(river, stuck)
         self.places = dict([(choice, place) for place, choice in enumerate(self.listed)])

@@ -1,20 +1,13 @@
 """Looks through tables, by one turn alone: whatever thing is handed in, whether it is a right one."""
 
-from weirwatch.standings import choices_many, lead, rains_at
-from weirwatch.turns import is_choice, is_pair, is_rain, is_standing, town_paid
+from weirwatch.standings import choices_many, is_choice_let, lead, rains_at
+from weirwatch.turns import is_pair, is_rain, is_standing, town_paid
 from weirwatch.words import is_whole
 
 
 def is_from_one(thing):
     # Bounded by itself, as there is no greatest one.
     return is_whole(thing, 1, thing)
-
-
-def is_choice_let(river, stuck, thing):
-    """Whether the thing is a choice that the stuck gates let be."""
-    if not is_choice(river, thing):
-        return False
-    return stuck is None or all([thing[0][place] == setting for place, setting in stuck.items()])
 
 
 def has_standings(river, table):
