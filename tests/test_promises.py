@@ -429,6 +429,28 @@ class LocalKeeper(Refusing):
                     outs.update(turn.outs)
         self.assertLessEqual({0, 1, 2, 3, 4}, outs)
 
+    def test_every_level_and_every_rain_of_long_rivers(self):
+        # What comes in a basin hangs on its level, on that of the basin above, and on its rain alone: so these are all.
+        tried = 0
+        for river in long_rivers():
+            row = promises(river)
+            keeper = local_keeper(river, row)
+            held = [lone_levels(basin, up, hi) for basin, up, hi in zip(river.basins, [0] + row, row)]
+            for place, basin in enumerate(river.basins):
+                above = held[place - 1] if place else [0]
+                for up, level, cubes in itertools.product(above, held[place], range(min(basin.rain, river.cloud) + 1)):
+                    levels = list(river.beginning()[0])
+                    if place:
+                        levels[place - 1] = up
+                    levels[place] = level
+                    standing = (tuple(levels), cubes)
+                    rain = tuple(cubes if other == place else 0 for other in range(len(levels)))
+                    turn = turned(river, standing, keeper(standing, 0), rain)
+                    self.assertIn(turn.levels[place], held[place])
+                    self.assertLessEqual(turn.outs[place], row[place])
+                    tried += 1
+        self.assertGreater(tried, 5000)
+
     def test_refused_of_the_first_basin_that_is_not_held(self):
         river = long_river(16)
         row = promises(river)
